@@ -1,0 +1,1 @@
+"""Voucherstack: vouchers at a till, one behind the other."""
