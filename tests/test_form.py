@@ -1,4 +1,4 @@
-"""The rules of the written form that can be seen file by file: names, sizes, signs, imports, statements."""
+"""The rules of the written form that can be seen file by file: sizes, signs, imports, statements, names."""
 
 import ast
 import builtins
@@ -26,6 +26,14 @@ WORDS_NOT_USED = re.compile(
     r"|namedtuple|NamedTuple|TypedDict|TYPE_CHECKING|abstractmethod)\b|dataclass|overload|contextmanager"
 )
 METHODS_WITH_TWO_UNDERSCORES = ("__init__", "__eq__", "__repr__", "__str__", "__len__")
+METHODS_OF_PYTHON = set(
+    "append clear copy count endswith extend find get index insert isalnum isalpha isdigit islower isspace isupper "
+    "items join keys ljust lower lstrip partition pop remove replace reverse rfind rjust rpartition rsplit rstrip "
+    "setdefault split splitlines startswith strip update upper values zfill bit_length".split()
+)
+VALUES_LIKE_PYTHONS_OWN = "count index title find get join lower upper split strip copy add".split()
+WALKED_AT_ONCE = ("zip", "enumerate", "reversed", "range")
+WALKERS = ("list", "tuple", "dict", "sorted", "sum", "any", "all", "enumerate", "zip", "min", "max")
 
 
 def sources():
@@ -48,6 +56,37 @@ def bound_names(node):
     if isinstance(node, (ast.FunctionDef, ast.ClassDef)):
         return [node.name]
     return []
+
+
+def trees():
+    return {path.stem: ast.parse(path.read_text(encoding="utf-8")) for path in sources()}
+
+
+def names_at_the_top(tree):
+    names = []
+    for node in tree.body:
+        if isinstance(node, (ast.FunctionDef, ast.ClassDef)):
+            names.append(node.name)
+        elif isinstance(node, ast.ImportFrom):
+            names += [each.name for each in node.names]
+        elif isinstance(node, ast.Assign):
+            names += [target.id for target in node.targets]
+    return names
+
+
+def drawn_from(tree):
+    return [node.module.split(".")[1] for node in tree.body if isinstance(node, ast.ImportFrom)]
+
+
+def methods_and_values():
+    methods = {}
+    values = {}
+    for name, node in nodes():
+        if isinstance(node, ast.ClassDef):
+            methods.update((each.name, True) for each in node.body if isinstance(each, ast.FunctionDef))
+        if isinstance(node, ast.Attribute) and isinstance(node.ctx, ast.Store):
+            values[node.attr] = True
+    return methods, values
 
 
 class Files(unittest.TestCase):
@@ -106,6 +145,92 @@ class Code(unittest.TestCase):
                     self.assertRegex(name, r"^[A-Za-z][A-Za-z0-9_]*$", file_name)
             if isinstance(node, ast.Name) and hasattr(builtins, node.id):
                 self.assertIn(node.id, OWN_NAMES_OF_PYTHON, file_name)
+
+    def test_one_target_and_no_further_parts(self):
+        for name, node in nodes():
+            if isinstance(node, ast.Assign):
+                self.assertEqual(len(node.targets), 1, (name, node.lineno))
+                self.assertNotIsInstance(node.targets[0], (ast.Tuple, ast.List), (name, node.lineno))
+            if isinstance(node, (ast.For, ast.While)):
+                self.assertEqual(node.orelse, [], (name, node.lineno))
+            if isinstance(node, ast.Try):
+                self.assertEqual(node.finalbody, [], (name, node.lineno))
+
+    def test_comprehensions(self):
+        for name, node in nodes():
+            if isinstance(node, ast.ListComp):
+                self.assertEqual(len(node.generators), 1, (name, node.lineno))
+                self.assertLessEqual(len(node.generators[0].ifs), 1, (name, node.lineno))
+
+    def test_is_beside_none_true_and_false_alone(self):
+        for name, node in nodes():
+            if isinstance(node, ast.Compare):
+                for sign, right in zip(node.ops, node.comparators):
+                    if isinstance(sign, (ast.Is, ast.IsNot)):
+                        self.assertIsInstance(right, ast.Constant, (name, node.lineno))
+                        self.assertIn(repr(right.value), ("None", "True", "False"), (name, node.lineno))
+
+    def test_walked_at_once(self):
+        for name, tree in trees().items():
+            walked = [node.iter for node in ast.walk(tree) if isinstance(node, (ast.For, ast.comprehension))]
+            for node in ast.walk(tree):
+                if isinstance(node, ast.Call) and isinstance(node.func, ast.Name) and node.func.id in WALKERS:
+                    walked += node.args[:1]
+            for node in ast.walk(tree):
+                if isinstance(node, ast.Call) and isinstance(node.func, ast.Name) and node.func.id in WALKED_AT_ONCE:
+                    self.assertIn(node, walked, (name, node.lineno))
+
+
+class NamesOfAPackage(unittest.TestCase):
+    def test_each_name_once_at_the_top(self):
+        for name, tree in trees().items():
+            names = names_at_the_top(tree)
+            self.assertEqual(len(names), len(set(names)), name)
+
+    def test_no_local_like_a_class_an_import_or_pythons_own(self):
+        for name, tree in trees().items():
+            taken = [node.name for node in tree.body if isinstance(node, ast.ClassDef)]
+            for node in tree.body:
+                if isinstance(node, ast.ImportFrom):
+                    taken += [each.name for each in node.names]
+            for node in ast.walk(tree):
+                if isinstance(node, ast.arg) or isinstance(node, ast.Name) and isinstance(node.ctx, ast.Store):
+                    for bound in bound_names(node):
+                        self.assertNotIn(bound, taken, name)
+                        self.assertFalse(hasattr(builtins, bound), (name, bound))
+
+    def test_imports_are_from_the_file_that_defines(self):
+        all_trees = trees()
+        for name, tree in all_trees.items():
+            for node in tree.body:
+                if isinstance(node, ast.ImportFrom):
+                    from_tree = all_trees[node.module.split(".")[1]]
+                    defined = [each.name for each in from_tree.body if hasattr(each, "name")]
+                    for each in node.names:
+                        self.assertIn(each.name, defined, name)
+
+    def test_no_two_files_draw_from_one_another(self):
+        left = {name: drawn_from(tree) for name, tree in trees().items()}
+        while left:
+            free = [name for name in left if not any(other in left for other in left[name])]
+            self.assertNotEqual(free, [], left)
+            for name in free:
+                del left[name]
+
+    def test_methods_that_are_called(self):
+        own = methods_and_values()[0]
+        for name, node in nodes():
+            if isinstance(node, ast.Call) and isinstance(node.func, ast.Attribute):
+                self.assertTrue(node.func.attr in own or node.func.attr in METHODS_OF_PYTHON, (name, node.func.attr))
+
+    def test_no_name_is_a_method_and_a_value(self):
+        methods, values = methods_and_values()
+        self.assertEqual([name for name in methods if name in values], [])
+
+    def test_values_are_not_called_like_pythons_own(self):
+        for name in methods_and_values()[1]:
+            for sort in (str, int, list, dict, set, bytes):
+                self.assertTrue(name in VALUES_LIKE_PYTHONS_OWN or not hasattr(sort, name), name)
 
 
 if __name__ == "__main__":
