@@ -1,6 +1,8 @@
 """What several tests need: looks at all that objects hold, and many made-up cases."""
 
-from voucherstack.cutting import after
+from voucherstack.cutting import after, reach
+from voucherstack.rules import fault
+from voucherstack.till import Till
 from voucherstack.vouchers import Bundle, Carriage, Cheapest, Marks, Off, Share
 from voucherstack.wares import Basket, Line, Standing
 
@@ -50,6 +52,34 @@ def behind(vouchers, parents, basket):
     return standing
 
 
+def standing_by(till, basket, order):
+    """The standing that an order of a till's vouchers leaves, whether it is let by or not."""
+    return behind([till.vouchers[number] for number in order], till.parents, basket)
+
+
+def can_be_gone_on_with(till, basket, hand, order):
+    due = fault(till, basket, hand, order)
+    return due is None or due[1] == "only"
+
+
+def least_by_words(till, basket, hand, order):
+    standing = standing_by(till, basket, order)
+    least = standing.whole()
+    for number, voucher in enumerate(till.vouchers):
+        come = hand[number] - len([each for each in order if each == number])
+        if voucher.marks.once:
+            come = min(come, 1) if number not in order else 0
+        least = least - reach(voucher, till.parents, basket, standing) * come
+    return least if least > 0 else 0
+
+
+def ahead_in_lists(one, other):
+    for left, right in zip(one, other):
+        if left != right:
+            return left < right
+    return len(one) < len(other)
+
+
 class Numbers:
     """Whole numbers that look mixed and are the same in each run."""
 
@@ -93,6 +123,42 @@ def made_basket(numbers):
         special = numbers.one_of([None, None, 0, 11])
         lines.append(Line(numbers.below(len(PARENTS)), numbers.one_of([0, 1, 10, 33, 97]), numbers.below(5), special))
     return Basket(lines, numbers.one_of([0, 5, 490]), numbers.below(2) == 0)
+
+
+def made_till(numbers, many, back="again"):
+    """Most marks that hinder are taken off again, or hardly an order would be let by."""
+    vouchers = [made_voucher(numbers) for place in range(many)]
+    for voucher in vouchers:
+        marks = voucher.marks
+        marks.kind = marks.kind if numbers.below(3) == 0 else None
+        marks.needs = marks.needs if numbers.below(2) == 0 else 0
+        marks.most = marks.most if numbers.below(3) == 0 else None
+        marks.member = marks.member and numbers.below(3) == 0
+    rules = []
+    for place in range(numbers.below(4)):
+        rules.append((numbers.one_of(["only", "never", "ahead"]), numbers.below(many), numbers.below(many)))
+    return Till(PARENTS, vouchers, rules, back)
+
+
+def made_hand(numbers, many, held):
+    """As many vouchers held in all as told, here one and there one."""
+    hand = [0] * many
+    for place in range(held):
+        hand[numbers.below(many)] += 1
+    return hand
+
+
+def made_searches(many):
+    """Tuples (till, basket, hand), of at most 4 held in all."""
+    numbers = Numbers(many)
+    cases = []
+    for number in range(many):
+        kinds = 1 + numbers.below(4)
+        basket = made_basket(numbers)
+        if numbers.below(8) > 0:
+            basket = Basket([Line(2, 40, 2), Line(3, 25, 1, 20)] + basket.lines, basket.carriage, basket.member)
+        cases.append((made_till(numbers, kinds), basket, made_hand(numbers, kinds, numbers.below(5))))
+    return cases
 
 
 def made_cases(many):

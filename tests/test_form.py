@@ -32,6 +32,10 @@ METHODS_OF_PYTHON = set(
     "setdefault split splitlines startswith strip update upper values zfill bit_length".split()
 )
 VALUES_LIKE_PYTHONS_OWN = "count index title find get join lower upper split strip copy add".split()
+KEYWORDS = (
+    ("sorted", "key"), ("sorted", "reverse"), ("min", "key"), ("min", "default"), ("max", "key"), ("max", "default"),
+    ("sum", "start"), ("enumerate", "start"), ("zip", "strict"),
+)
 WALKED_AT_ONCE = ("zip", "enumerate", "reversed", "range")
 WALKERS = ("list", "tuple", "dict", "sorted", "sum", "any", "all", "enumerate", "zip", "min", "max")
 
@@ -137,6 +141,31 @@ class Code(unittest.TestCase):
                 self.assertEqual((node.vararg, node.kwarg, node.kwonlyargs, node.posonlyargs), (None, None, [], []))
             if isinstance(node, ast.ClassDef):
                 self.assertLessEqual(len(node.bases), 1, (name, node.name))
+
+    def test_nothing_but_methods_in_a_class(self):
+        for name, node in nodes():
+            if isinstance(node, ast.ClassDef):
+                for each in node.body:
+                    self.assertIsInstance(each, (ast.FunctionDef, ast.Pass), (name, node.name))
+
+    def test_keywords_at_pythons_own(self):
+        for name, node in nodes():
+            if isinstance(node, ast.Call) and isinstance(node.func, ast.Name) and hasattr(builtins, node.func.id):
+                for keyword in node.keywords:
+                    self.assertIn((node.func.id, keyword.arg), KEYWORDS, (name, node.lineno))
+
+    def test_texts(self):
+        for name, node in nodes():
+            if isinstance(node, ast.Constant) and isinstance(node.value, str):
+                self.assertNotIn("%", node.value, name)
+
+    def test_errors_are_made_on_the_spot_and_taken_by_name(self):
+        for name, node in nodes():
+            if isinstance(node, ast.Raise):
+                self.assertIsInstance(node.exc, ast.Call, (name, node.lineno))
+            if isinstance(node, ast.ExceptHandler):
+                self.assertIsInstance(node.type, ast.Name, (name, node.lineno))
+                self.assertNotIn(node.type.id, ("Exception", "TypeError"), (name, node.lineno))
 
     def test_names(self):
         for file_name, node in nodes():
