@@ -210,6 +210,51 @@ class Code(unittest.TestCase):
                     self.assertIn(node, walked, (name, node.lineno))
 
 
+class TopOfAFile(unittest.TestCase):
+    def check_plain(self, node, above, inner=False):
+        """A number, a text or the like; a function from above; or a tuple, and outside of these a list or dict."""
+        if isinstance(node, ast.Name):
+            self.assertIn(node.id, above)
+        elif isinstance(node, ast.Tuple):
+            for each in node.elts:
+                self.check_plain(each, above, True)
+        elif isinstance(node, (ast.List, ast.Dict)):
+            self.assertFalse(inner)
+            for each in node.elts if isinstance(node, ast.List) else node.keys + node.values:
+                self.check_plain(each, above, True)
+        else:
+            self.assertIsInstance(node, ast.Constant)
+
+    def test_what_stands_there(self):
+        for name, tree in trees().items():
+            above = []
+            for place, node in enumerate(tree.body):
+                if isinstance(node, ast.Assign):
+                    self.check_plain(node.value, above)
+                elif isinstance(node, ast.Expr):
+                    self.assertEqual((place, type(node.value.value)), (0, str), name)
+                else:
+                    self.assertIsInstance(node, (ast.FunctionDef, ast.ClassDef, ast.ImportFrom), name)
+                if isinstance(node, ast.FunctionDef):
+                    above.append(node.name)
+
+    def test_lists_and_dicts_are_only_read(self):
+        for name, tree in trees().items():
+            kept = [node.targets[0].id for node in tree.body
+                    if isinstance(node, ast.Assign) and isinstance(node.value, (ast.List, ast.Dict))]
+            read = []
+            for node in ast.walk(tree):
+                if isinstance(node, ast.Subscript) and isinstance(node.ctx, ast.Load):
+                    read.append(node.value)
+                if isinstance(node, ast.Compare):
+                    read += node.comparators
+                if isinstance(node, (ast.For, ast.comprehension)):
+                    read.append(node.iter)
+            for node in ast.walk(tree):
+                if isinstance(node, ast.Name) and isinstance(node.ctx, ast.Load) and node.id in kept:
+                    self.assertIn(node, read, (name, node.lineno))
+
+
 class NamesOfAPackage(unittest.TestCase):
     def test_each_name_once_at_the_top(self):
         for name, tree in trees().items():

@@ -5,14 +5,15 @@ from voucherstack.rules import Way
 
 
 def orders(till, basket, hand):
-    return orders_from(Way(till, basket, hand))
+    return [list(way.used) for way in ways_from(Way(till, basket, hand))]
 
 
-def orders_from(way):
-    found = [list(way.used)] if way.is_let_by() else []
+def ways_from(way):
+    """The ways that are let by, of this one and all that go on from it, in the order of lists."""
+    found = [way] if way.is_let_by() else []
     # One that is not let by may be the beginning of one that is.
     for number in way.followers():
-        found.extend(orders_from(way.behind(number)))
+        found.extend(ways_from(way.behind(number)))
     return found
 
 
